@@ -1,0 +1,1 @@
+"""Twinwalk: two programs walked side by side."""

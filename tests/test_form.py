@@ -42,10 +42,20 @@ def given_names(tree):
     return names
 
 
-def package_names():
+def value_names(tree):
+    """The values that objects are given."""
+    return [node.attr for node in ast.walk(tree) if isinstance(node, ast.Attribute) and isinstance(node.ctx, ast.Store)]
+
+
+def method_names(tree):
+    return [node.name for top in tree.body if isinstance(top, ast.ClassDef)
+            for node in top.body if isinstance(node, ast.FunctionDef)]
+
+
+def names_of(told):
     names = set()
     for name, tree in trees():
-        names.update(given_names(tree))
+        names.update(told(tree))
     return names
 
 
@@ -97,11 +107,11 @@ class Form(unittest.TestCase):
                     self.assertEqual(node.decorator_list, [], name)
 
     def test_names(self):
-        own = package_names()
+        own, objects = names_of(given_names), names_of(value_names) | names_of(method_names)
         for name, tree in trees():
             for given in given_names(tree):
                 self.assertNotIn(given, NEVER, name)
-                self.assertFalse(hasattr(builtins, given), name + " " + given)
+                self.assertNotIn(given, vars(builtins), name)
                 self.assertRegex(given, r"\A([A-Za-z]\w*|__init__)\Z", name)
             drawn = {alias.name for node in ast.walk(tree) if isinstance(node, ast.ImportFrom) for alias in node.names}
             self.assertEqual(sorted(drawn & set(given_names(tree))), [], name)
@@ -109,7 +119,13 @@ class Form(unittest.TestCase):
                 if isinstance(node, ast.Name):
                     self.assertIn(node.id, own | OWN_NAMES, name)
                 if isinstance(node, ast.Attribute):
-                    self.assertIn(node.attr, own | METHODS, name)
+                    self.assertIn(node.attr, objects | METHODS, name)
+
+    def test_methods_and_values(self):
+        values, methods = names_of(value_names), names_of(method_names) - {"__init__"}
+        self.assertEqual(sorted(values & methods), [])
+        python = set(dir(str) + dir(int) + dir(list) + dir(dict) + dir(set) + dir(bytes))
+        self.assertEqual(sorted((values | methods) & python), [])
 
 
 if __name__ == "__main__":

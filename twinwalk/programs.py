@@ -90,13 +90,17 @@ def refuse_worths(sizes, worths):
             raise NoWorths(f"the worth {worth} is out of the size {size}")
 
 
+def box_sizes(program):
+    return [size for name, size in program[0]]
+
+
 def refuse_box_worths(program, worths):
-    refuse_worths([size for name, size in program[0]], worths)
+    refuse_worths(box_sizes(program), worths)
 
 
-def known_worths(program, worths):
+def known_worths(program, worths, side="box"):
     """The worths by the sums that tell a box alone, so that such a sum is its own key."""
-    return {("box", name): worth for (name, size), worth in zip(program[0], worths)}
+    return {(side, name): worth for (name, size), worth in zip(program[0], worths)}
 
 
 def worth_by(known, sum_told):

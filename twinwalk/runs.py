@@ -69,7 +69,12 @@ def said_in(program, inputs, steps):
 
 def every_input(program):
     """All inputs' worths, in order."""
+    return every_worths(input_sizes(program))
+
+
+def every_worths(sizes):
+    """All lists of a whole number below each size, in order."""
     rows = [[]]
-    for size in input_sizes(program):
+    for size in sizes:
         rows = [row + [worth] for row in rows for worth in range(size)]
     return rows

@@ -22,6 +22,39 @@ def more(name, told=ONE):
     return ("plus", ("box", name), told)
 
 
+BELOW = ("less", NOUGHT, ONE)
+SAME = ("same", mine("a"), yours("a"))
+SHORT = program_of([("a", 4)], ["a"], [("put", "a", more("a"), 1), ("say", A, 2), END])
+LONG = program_of([("t", 4), ("a", 4)], ["a"],
+                  [("put", "t", A, 1), ("put", "a", ("plus", ("box", "t"), ONE), 2), ("say", A, 3), ("test", YES, 4, 0),
+                   END])
+KEPT = ("both", SAME, ("same", yours("t"), yours("a")))
+GOOD = [(0, 0, SAME, "yours", ONE), (0, 1, KEPT, "both", NOUGHT), (1, 2, SAME, "both", NOUGHT),
+        (2, 3, YES, "yours", ONE), (2, 4, YES, "end", NOUGHT)]
+# For each reason of [18] a paper for the short and the long one that is not let by.
+BAD = [GOOD[1:], GOOD[:3] + GOOD[4:], GOOD[:4], [],
+       [(0, 0, ("both", SAME, ("under", mine("a"), TWO)), "yours", ONE)] + GOOD[1:],
+       [(0, 0, SAME, "yours", NOUGHT)] + GOOD[1:], GOOD[:4] + [(2, 4, YES, "end", BELOW)],
+       GOOD[:2] + [(1, 2, YES, "both", NOUGHT)] + GOOD[3:], GOOD[:2] + [(1, 2, SAME, "mine", ONE)] + GOOD[3:],
+       GOOD[:2] + [(1, 2, SAME, "yours", ONE)] + GOOD[3:], GOOD[:2] + [(1, 2, SAME, "end", ONE)] + GOOD[3:],
+       GOOD + [(1, 3, YES, "both", NOUGHT)], GOOD + [(1, 2, NO, "nobody", NOUGHT)], GOOD + [(3, 0, NO, "end", NOUGHT)],
+       GOOD + [(0, 5, NO, "end", NOUGHT)], GOOD + [(-1, 0, NO, "end", NOUGHT)], GOOD + [(0, -1, NO, "end", NOUGHT)],
+       GOOD + [(1, 2, ("both", NO, ("same", mine("t"), ONE)), "both", NOUGHT)],
+       GOOD + [(1, 2, NO, "both", ("plus", ONE, mine("t")))], GOOD + [(1, 2, NO, "both", ("box", "a"))],
+       GOOD + [(1, 2, NO, "both", yours("ghost"))]]
+PLAIN = program_of([("a", 3), ("b", 5)], ["a", "b"], [END])
+NO_PAIRS = [program_of([("a", 3), ("b", 5), ("c", 2)], ["a", "b", "c"], [END]),
+            program_of([("a", 3), ("b", 5)], ["a"], [END]),
+            program_of([("a", 3), ("b", 5)], ["b"], [END]),
+            program_of([("a", 3), ("b", 5)], [], [END]),
+            program_of([("a", 3), ("c", 5)], ["a", "c"], [END]),
+            program_of([("a", 3), ("b", 5)], ["b", "a"], [END]),
+            program_of([("a", 3), ("b", 4)], ["a", "b"], [END]),
+            program_of([("a", 4), ("b", 5)], ["a", "b"], [END]),
+            program_of([("a", 5), ("b", 3)], ["a", "b"], [END]),
+            program_of([], [], [END])]
+
+
 def all_worths(program):
     return [list(worths) for worths in itertools.product(*[range(size) for name, size in program[0]])]
 
@@ -194,3 +227,58 @@ def some_pair(dice):
     if dice.random() < 0.6:
         return one, like_program(dice, one)
     return one, some_program(dice, inputs, [("d", 3)][:dice.randrange(2)])
+
+
+def some_paper(dice):
+    """A pair and a paper of good places and boxes, of two entries a pair of places at most."""
+    one, other = some_pair(dice)
+    boxes = [mine(name) for name, size in one[0]] + [yours(name) for name, size in other[0]]
+    places = [(p, q) for p in range(len(one[2])) for q in range(len(other[2]))]
+    paper = [(p, q, some_condition(dice, boxes, 2), dice.choice(("mine", "yours", "both", "end")),
+              some_sum(dice, boxes, 1)) for p, q in places + places if dice.random() < 0.5]
+    return one, other, paper
+
+
+def some_change(dice, one, other, paper):
+    """The paper with one thing changed by chance."""
+    boxes = [mine(name) for name, size in one[0]] + [yours(name) for name, size in other[0]]
+    changed = list(paper)
+    at = dice.randrange(len(changed))
+    p, q, condition, who, wait = changed[at]
+    kind = dice.randrange(7)
+    if kind == 0:
+        changed[at] = (p, q, condition, dice.choice(("mine", "yours", "both", "end")), wait)
+    elif kind == 1:
+        changed[at] = (p, q, condition, who, ("number", max(wait[1] + dice.choice((-1, 1, 2)), 0)))
+    elif kind == 2:
+        changed[at] = (p, q, YES, who, wait)
+    elif kind == 3:
+        changed[at] = (p, q, condition, who, some_sum(dice, boxes, 1))
+    elif kind == 4:
+        del changed[at]
+    elif kind == 5:
+        changed.insert(at, (p, q, some_condition(dice, boxes, 2), who, wait))
+    else:
+        place = (dice.randrange(len(one[2])), dice.randrange(len(other[2])))
+        changed.insert(0, place + (some_condition(dice, boxes, 1), dice.choice(("mine", "yours", "both")), wait))
+    return changed
+
+
+def turned(told):
+    """A sum or condition with mine and yours exchanged everywhere within."""
+    if told[0] in ("mine", "yours"):
+        return (turned_side(told[0]), told[1])
+    return tuple(turned(part) if isinstance(part, tuple) else part for part in told)
+
+
+def turned_side(side):
+    return {"mine": "yours", "yours": "mine"}.get(side, side)
+
+
+def turned_about(paper):
+    return [(q, p, turned(condition), turned_side(who), turned(wait)) for p, q, condition, who, wait in paper]
+
+
+def line(many, boxes, inputs, last=END):
+    """A program of so many quiet nodes in a line and a last one."""
+    return program_of(boxes, inputs, [("test", YES, at + 1, 0) for at in range(many)] + [last])

@@ -5,8 +5,8 @@ import random
 import time
 import unittest
 
-from helper import A, B, C, END, NOUGHT, ONE, TWO, YES, known_of, mine, more, reckoned, some_condition, some_pair, \
-    some_sum, walk_as_told, yours
+from helper import A, B, C, END, NO_PAIRS, NOUGHT, ONE, PLAIN, TWO, YES, known_of, mine, more, reckoned, \
+    some_condition, some_pair, some_sum, walk_as_told, yours
 from twinwalk.between import holds_between, runs_part, sum_between
 from twinwalk.errors import NoPair, NoProgram, NoWorths
 from twinwalk.findings import alike_for, likeness
@@ -15,19 +15,6 @@ from twinwalk.programs import program_of
 from twinwalk.runs import every_input
 
 BIG = 10 ** 30 - 1
-PLAIN = program_of([("a", 3), ("b", 5)], ["a", "b"], [END])
-NO_PAIRS = [program_of([("a", 3), ("b", 5), ("c", 2)], ["a", "b", "c"], [END]),
-            program_of([("a", 3), ("b", 5)], ["a"], [END]),
-            program_of([("a", 3), ("b", 5)], ["b"], [END]),
-            program_of([("a", 3), ("b", 5)], [], [END]),
-            program_of([("a", 3), ("c", 5)], ["a", "c"], [END]),
-            program_of([("a", 3), ("b", 5)], ["b", "a"], [END]),
-            program_of([("a", 3), ("b", 4)], ["a", "b"], [END]),
-            program_of([("a", 4), ("b", 5)], ["a", "b"], [END]),
-            program_of([("a", 5), ("b", 3)], ["a", "b"], [END]),
-            program_of([], [], [END])]
-
-
 class Pairs(unittest.TestCase):
     def refused(self, one, other):
         paper = [(0, 0, YES, "end", NOUGHT)]

@@ -5,8 +5,8 @@ import random
 import time
 import unittest
 
-from helper import A, B, C, END, NO, NOUGHT, ONE, TWO, YES, all_worths, known_of, more, reckoned, some_pair, stepped, \
-    turn_as_told, walk_as_told
+from helper import A, B, C, END, NO, NOUGHT, ONE, TWO, YES, all_worths, known_of, line, more, reckoned, some_pair, \
+    stepped, turn_as_told, walk_as_told
 from twinwalk.between import runs_part
 from twinwalk.errors import NoPair, NoWorths, TooMany
 from twinwalk.findings import alike_for, likeness
@@ -187,11 +187,6 @@ class Likeness(unittest.TestCase):
         told = likeness(one, other)
         other[2][1] = ("say", ONE, 2)
         self.assertEqual(told, likeness(one, before[1]))
-
-
-def line(many, boxes, inputs, last=END):
-    """A program of so many quiet nodes in a line and a last one."""
-    return program_of(boxes, inputs, [("test", YES, at + 1, 0) for at in range(many)] + [last])
 
 
 class TooManyEntries(unittest.TestCase):

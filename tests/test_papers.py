@@ -5,34 +5,12 @@ import random
 import time
 import unittest
 
-from helper import A, B, END, NO, NOUGHT, ONE, TWO, YES, all_worths, entry_counting, mine, more, shows_as_told, \
-    some_condition, some_pair, some_sum, walk_as_told, yours
+from helper import A, B, BELOW, END, GOOD, LONG, NO, NOUGHT, ONE, SAME, SHORT, TWO, YES, all_worths, entry_counting, \
+    mine, more, shows_as_told, some_change, some_pair, some_paper, turned_about, walk_as_told, yours
 from twinwalk.findings import likeness
 from twinwalk.papers import entry_worths, paper_shows
 from twinwalk.programs import program_of
 from twinwalk.runs import every_input
-
-BELOW = ("less", NOUGHT, ONE)
-SAME = ("same", mine("a"), yours("a"))
-SHORT = program_of([("a", 4)], ["a"], [("put", "a", more("a"), 1), ("say", A, 2), END])
-LONG = program_of([("t", 4), ("a", 4)], ["a"],
-                  [("put", "t", A, 1), ("put", "a", ("plus", ("box", "t"), ONE), 2), ("say", A, 3), ("test", YES, 4, 0),
-                   END])
-KEPT = ("both", SAME, ("same", yours("t"), yours("a")))
-GOOD = [(0, 0, SAME, "yours", ONE), (0, 1, KEPT, "both", NOUGHT), (1, 2, SAME, "both", NOUGHT),
-        (2, 3, YES, "yours", ONE), (2, 4, YES, "end", NOUGHT)]
-
-
-def turned(told):
-    """A thing with mine and yours exchanged everywhere within."""
-    if isinstance(told, tuple):
-        return tuple(turned(part) for part in told)
-    return {"mine": "yours", "yours": "mine"}.get(told, told)
-
-
-def turned_about(paper):
-    return [(q, p) + turned((condition, who, wait)) for p, q, condition, who, wait in paper]
-
 
 class LetBy(unittest.TestCase):
     def shows(self, paper, due, one=SHORT, other=LONG):
@@ -317,41 +295,6 @@ class EntryWorths(unittest.TestCase):
             self.assertEqual(entry_worths(one, other, paper, number), due)
             self.assertIs(paper_shows(one, other, paper), True)
             self.assertEqual((one, other, paper), (SHORT, LONG, GOOD))
-
-
-def some_paper(dice):
-    """A pair and a paper of good places and boxes, of two entries a pair of places at most."""
-    one, other = some_pair(dice)
-    boxes = [mine(name) for name, size in one[0]] + [yours(name) for name, size in other[0]]
-    places = [(p, q) for p in range(len(one[2])) for q in range(len(other[2]))]
-    paper = [(p, q, some_condition(dice, boxes, 2), dice.choice(("mine", "yours", "both", "end")),
-              some_sum(dice, boxes, 1)) for p, q in places + places if dice.random() < 0.5]
-    return one, other, paper
-
-
-def some_change(dice, one, other, paper):
-    """The paper with one thing changed by chance."""
-    boxes = [mine(name) for name, size in one[0]] + [yours(name) for name, size in other[0]]
-    changed = list(paper)
-    at = dice.randrange(len(changed))
-    p, q, condition, who, wait = changed[at]
-    kind = dice.randrange(7)
-    if kind == 0:
-        changed[at] = (p, q, condition, dice.choice(("mine", "yours", "both", "end")), wait)
-    elif kind == 1:
-        changed[at] = (p, q, condition, who, ("number", max(wait[1] + dice.choice((-1, 1, 2)), 0)))
-    elif kind == 2:
-        changed[at] = (p, q, YES, who, wait)
-    elif kind == 3:
-        changed[at] = (p, q, condition, who, some_sum(dice, boxes, 1))
-    elif kind == 4:
-        del changed[at]
-    elif kind == 5:
-        changed.insert(at, (p, q, some_condition(dice, boxes, 2), who, wait))
-    else:
-        place = (dice.randrange(len(one[2])), dice.randrange(len(other[2])))
-        changed.insert(0, place + (some_condition(dice, boxes, 1), dice.choice(("mine", "yours", "both")), wait))
-    return changed
 
 
 class ByChance(unittest.TestCase):

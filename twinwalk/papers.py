@@ -16,6 +16,7 @@ class Side:
         self.worths = every_worths(box_sizes(program))
         self.numbers = {tuple(worths): number for number, worths in enumerate(self.worths)}
         self.steps = {}
+        self.stays = {}
 
     def number_of(self, worths):
         return self.numbers[tuple(worths)]
@@ -32,7 +33,9 @@ class Side:
 
     def stays_at(self, place):
         """What steps_at tells, of a program that takes no step."""
-        return [([], place, number) for number in range(len(self.worths))]
+        if place not in self.stays:
+            self.stays[place] = [([], place, number) for number in range(len(self.worths))]
+        return self.stays[place]
 
 
 class Ground:
@@ -108,14 +111,20 @@ def rows_counted(ground, paper):
     return counted
 
 
-def column_by_places(ground, paper, counted, part):
-    """By two places a list: for each row the worth of that part of the entry that counts, None where none does."""
-    told = {}
-    for entry, rows in zip(paper, counted):
-        column = told.setdefault((entry[0], entry[1]), [None] * len(ground.rows))
-        for row, worth in zip(rows, worths_along(ground, rows, entry[part])):
-            column[row] = worth
-    return told
+def told_by_places(ground, paper, counted, told):
+    """By two places a list: for each row what is told at it for the entry that counts, None where none does."""
+    columns = {}
+    for entry, rows, things in zip(paper, counted, told):
+        column = columns.setdefault((entry[0], entry[1]), [None] * len(ground.rows))
+        for row, thing in zip(rows, things):
+            column[row] = thing
+    return columns
+
+
+def worths_by_places(ground, paper, counted, part):
+    """By two places and row the worth of that part of the entry that counts."""
+    told = [worths_along(ground, rows, entry[part]) for entry, rows in zip(paper, counted)]
+    return told_by_places(ground, paper, counted, told)
 
 
 def entry_fits(ground, entry):
@@ -138,37 +147,42 @@ def turn_fits(ground, entry):
     return first == second == "end"
 
 
-def steps_by(ground, entry):
-    """The steps of both by an entry whose turn fits and is no end: by mine's numbers, and by yours'."""
-    p, q, who = entry[0], entry[1], entry[3]
-    first = ground.mine.stays_at(p) if who == "yours" else ground.mine.steps_at(p)
-    second = ground.yours.stays_at(q) if who == "mine" else ground.yours.steps_at(q)
-    return (first, second)
+class Turn:
+    """What an entry whose turn fits does, row by row; at an end both stay."""
 
+    def __init__(self, ground, waits, entry):
+        p, q, who = entry[0], entry[1], entry[3]
+        self.width = ground.width
+        self.waits = waits
+        self.here = waits[(p, q)]
+        self.alone = who in ("mine", "yours")
+        self.first = ground.mine.steps_at(p) if who in ("mine", "both") else ground.mine.stays_at(p)
+        self.second = ground.yours.steps_at(q) if who in ("yours", "both") else ground.yours.stays_at(q)
 
-def well_behind(ground, waits, entry, rows):
-    """Whether from each of the rows both say the same, some entry counts behind it, and waits less if it must."""
-    first, second = steps_by(ground, entry)
-    here, alone = waits[(entry[0], entry[1])], entry[3] != "both"
-    for row in rows:
-        said, mine_place, mine_number = first[row // ground.width]
-        heard, yours_place, yours_number = second[row % ground.width]
-        if said != heard or (mine_place, yours_place) not in waits:
-            return False
-        there = waits[(mine_place, yours_place)][mine_number * ground.width + yours_number]
-        if there is None or (alone and there >= here[row]):
-            return False
-    return True
+    def behind(self, row):
+        """The two places and the row behind one at which the entry counts; None where it isn't well there."""
+        said, p, mine_number = self.first[row // self.width]
+        heard, q, yours_number = self.second[row % self.width]
+        if self.here[row] < 0 or said != heard or (p, q) not in self.waits:
+            return None
+        there = mine_number * self.width + yours_number
+        wait = self.waits[(p, q)][there]
+        if wait is None or (self.alone and wait >= self.here[row]):
+            return None
+        return ((p, q), there)
 
 
 def entry_well(ground, waits, entry, rows):
     """Whether an entry is well at all the rows at which it counts."""
     if len(rows) == 0:
         return True
-    here = waits[(entry[0], entry[1])]
-    if not turn_fits(ground, entry) or min([here[row] for row in rows]) < 0:
+    if not turn_fits(ground, entry):
         return False
-    return entry[3] == "end" or well_behind(ground, waits, entry, rows)
+    turn = Turn(ground, waits, entry)
+    for row in rows:
+        if turn.behind(row) is None:
+            return False
+    return True
 
 
 def begins_well(ground, waits):
@@ -178,20 +192,28 @@ def begins_well(ground, waits):
     return all([waits[(0, 0)][row] is not None for row in ground.beginnings()])
 
 
-def paper_shows(one, other, paper):
-    """Whether a paper is let by for a pair."""
-    refuse_no_pair(one, other)
-    ground = Ground(one, other)
-    if not all([entry_fits(ground, entry) for entry in paper]):
-        return False
-    counted = rows_counted(ground, paper)
-    waits = column_by_places(ground, paper, counted, 4)
+def all_fit(ground, paper):
+    return all([entry_fits(ground, entry) for entry in paper])
+
+
+def all_well(ground, paper, counted, waits):
+    """Whether a paper is let by, all of whose entries fit."""
     if not begins_well(ground, waits):
         return False
     for entry, rows in zip(paper, counted):
         if not entry_well(ground, waits, entry, rows):
             return False
     return True
+
+
+def paper_shows(one, other, paper):
+    """Whether a paper is let by for a pair."""
+    refuse_no_pair(one, other)
+    ground = Ground(one, other)
+    if not all_fit(ground, paper):
+        return False
+    counted = rows_counted(ground, paper)
+    return all_well(ground, paper, counted, worths_by_places(ground, paper, counted, 4))
 
 
 def entry_worths(one, other, paper, number):

@@ -4,6 +4,8 @@ from twinwalk.errors import NoPair
 from twinwalk.programs import holds_by, known_worths, refuse_box_worths, refuse_unknown, worth_by
 from twinwalk.runs import input_sizes, run_of
 
+YES = ("yes",)
+
 
 def refuse_no_pair(one, other):
     if one[1] != other[1] or input_sizes(one) != input_sizes(other):
@@ -71,3 +73,23 @@ def first_said(run, many):
     while around and len(said) < many:
         said.extend(around)
     return said[:many]
+
+
+def joined_by(word, parts):
+    """One thing of all the parts, each two joined by a word; by halves, so that few stand within one another."""
+    if len(parts) == 1:
+        return parts[0]
+    half = len(parts) // 2
+    return (word, joined_by(word, parts[:half]), joined_by(word, parts[half:]))
+
+
+def all_of(conditions):
+    """A condition that holds where each of these does."""
+    return joined_by("both", conditions)
+
+
+def any_of(conditions):
+    """A condition that holds where some of these does."""
+    if len(conditions) == 1:
+        return conditions[0]
+    return ("not", all_of([("not", condition) for condition in conditions]))

@@ -1,26 +1,9 @@
 """Papers made lesser: alike entries joined, and papers kept to what is come to."""
 
-from twinwalk.between import refuse_no_pair
+from twinwalk.between import YES, any_of, refuse_no_pair
 from twinwalk.errors import NoPaper
 from twinwalk.papers import Ground, Turn, paper_shows, rows_counted, told_by_places, turn_fits, worths_by_places
 from twinwalk.programs import all_known, box_sizes
-
-YES = ("yes",)
-
-
-def all_of(conditions):
-    """A condition that holds where each of these does; by halves, so that few stand within one another."""
-    if len(conditions) == 1:
-        return conditions[0]
-    half = len(conditions) // 2
-    return ("both", all_of(conditions[:half]), all_of(conditions[half:]))
-
-
-def any_of(conditions):
-    """A condition that holds where some of these does."""
-    if len(conditions) == 1:
-        return conditions[0]
-    return ("not", all_of([("not", condition) for condition in conditions]))
 
 
 def from_to(box, low, high):

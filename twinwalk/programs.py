@@ -8,7 +8,7 @@ NAMELESS = ("number", "yes")
 
 
 def program_of(boxes, inputs, nodes):
-    """A program, made of the three lists."""
+    """A program, made of the three lists; picks are looked through like other nodes."""
     refuse_boxes(boxes)
     refuse_inputs(boxes, inputs)
     refuse_nodes(boxes, nodes)
@@ -51,17 +51,19 @@ def leads_of(node):
         return []
     if node[0] == "put":
         return [node[3]]
-    if node[0] == "say":
+    if node[0] in ("say", "pick"):
         return [node[2]]
     return [node[2], node[3]]
 
 
 def told_by(node):
-    """The sums and conditions of a node; a put's box is told as the sum of it."""
+    """The sums and conditions of a node; the box of a put or pick is told as the sum of it."""
     if node[0] == "end":
         return []
     if node[0] == "put":
         return [("box", node[1]), node[2]]
+    if node[0] == "pick":
+        return [("box", node[1])]
     return [node[1]]
 
 
